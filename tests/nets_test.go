@@ -34,6 +34,34 @@ func parallelNet(buses int, lines int) impl.Net {
 	return n
 }
 
+// chainNet is a network whose lines form one chain over all buses, told from its far end, so that islands grow against the order of the lines.
+func chainNet() impl.Net {
+	n := impl.Net{Buses: impl.MaxBuses}
+	for bus := impl.MaxBuses - 1; bus > 0; bus-- {
+		n.Lines = append(n.Lines, impl.Line{A: bus, B: bus - 1, Most: 10})
+	}
+	return n
+}
+
+// crossedNet is a network whose chain of lines goes to and fro between low and high buses: 0-7-1-6-2-5-3-4.
+func crossedNet() impl.Net {
+	order := []int{0, 7, 1, 6, 2, 5, 3, 4}
+	n := impl.Net{Buses: impl.MaxBuses}
+	for k := range len(order) - 1 {
+		n.Lines = append(n.Lines, impl.Line{A: order[k], B: order[k+1], Most: 10})
+	}
+	return n
+}
+
+// starNet is a network with a line from its last bus to every other one, so that only this bus holds them together.
+func starNet() impl.Net {
+	n := impl.Net{Buses: impl.MaxBuses}
+	for bus := range impl.MaxBuses - 1 {
+		n.Lines = append(n.Lines, impl.Line{A: impl.MaxBuses - 1, B: bus, Most: 10})
+	}
+	return n
+}
+
 // someNet is a network by chance, the same one for the same seed; with few buses it has many parallel lines.
 func someNet(seed int64) impl.Net {
 	r := rand.New(rand.NewSource(seed))

@@ -55,3 +55,41 @@ func longStates() [][]bool {
 	}
 	return list
 }
+
+// eachState calls a function for many networks with states: for special shapes with all their states.
+func eachState(do func(n impl.Net, on []bool)) {
+	for _, n := range []impl.Net{
+		{Buses: 1}, {Buses: impl.MaxBuses}, chainNet(), crossedNet(), starNet(), fullNet(), ringNet(3, 6),
+		parallelNet(2, 5), parallelNet(impl.MaxBuses, impl.MaxLines), someNet(1), someNet(7),
+	} {
+		for _, on := range allStates(len(n.Lines)) {
+			do(n, on)
+		}
+	}
+	for _, n := range goodNets() {
+		for _, on := range netStates(n) {
+			do(n, on)
+		}
+	}
+}
+
+// eachWrong calls a function for networks with states of which one or the other is not valid.
+func eachWrong(do func(n impl.Net, on []bool, told string)) {
+	for _, n := range goodNets() {
+		for lines := range impl.MaxLines + 4 {
+			if lines != len(n.Lines) {
+				do(n, make([]bool, lines), "off, other number of lines")
+				do(n, slices.Repeat([]bool{true}, lines), "on, other number of lines")
+			}
+		}
+	}
+	for _, on := range longStates() {
+		do(fullNet(), on, "long state")
+	}
+	for name, n := range badNets() {
+		for _, on := range netStates(n) {
+			do(n, on, name)
+		}
+		do(n, nil, name)
+	}
+}
