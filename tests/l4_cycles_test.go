@@ -92,10 +92,7 @@ func eachKnot(t *testing.T, do func(name string, k knot, n impl.Net, on []bool))
 	for name, k := range knots() {
 		n, ok := impl.ReadNet(k.net)
 		check(t, ok, name, k.net)
-		on := slices.Repeat([]bool{true}, len(n.Lines))
-		for _, line := range k.off {
-			on[line] = false
-		}
+		on := allBut(n, k.off)
 		do(name, k, n, on)
 	}
 }

@@ -54,10 +54,7 @@ func eachTree(t *testing.T, do func(name string, x tree, n impl.Net, on []bool, 
 	t.Helper()
 	for name, x := range trees() {
 		n := readNet(t, x.net)
-		on := slices.Repeat([]bool{true}, len(n.Lines))
-		for _, k := range x.off {
-			on[k] = false
-		}
+		on := allBut(n, x.off)
 		buses := slices.Repeat([]impl.Bus{{Load: 4}}, n.Buses)
 		for _, bus := range x.feeds {
 			buses[bus].Feed = 1

@@ -76,10 +76,7 @@ func eachRun(t *testing.T, do func(name string, x run, n impl.Net, on []bool)) {
 	t.Helper()
 	for name, x := range runs() {
 		n := readNet(t, x.net)
-		on := slices.Repeat([]bool{true}, len(n.Lines))
-		for _, k := range x.off {
-			on[k] = false
-		}
+		on := allBut(n, x.off)
 		do(name, x, n, on)
 	}
 }

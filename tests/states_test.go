@@ -22,6 +22,15 @@ func allStates(lines int) [][]bool {
 	return list
 }
 
+// allBut is a state of a network in which all lines are on but those of a list.
+func allBut(n impl.Net, off []int) []bool {
+	on := slices.Repeat([]bool{true}, len(n.Lines))
+	for _, k := range off {
+		on[k] = false
+	}
+	return on
+}
+
 // someState is a state by chance, the same one for the same seed.
 func someState(seed int64, lines int) []bool {
 	r := rand.New(rand.NewSource(seed))
