@@ -131,19 +131,6 @@ func barsAfter(b impl.Bars, deed int) (impl.Bars, bool) {
 	return after, true
 }
 
-// barsAfterAll are valid bars after all deeds that may be done, and how many these are, as the document has it.
-func barsAfterAll(b impl.Bars, deeds []int) (impl.Bars, int) {
-	many := 0
-	for _, deed := range deeds {
-		after, done := barsAfter(b, deed)
-		if done {
-			b = after
-			many++
-		}
-	}
-	return b, many
-}
-
 // movesOf are the deeds that put a bay of valid bars on one bar alone, as the document has it.
 func movesOf(b impl.Bars, bay int, bar int) []int {
 	if b.Sides[bay] == bar {

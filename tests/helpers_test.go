@@ -43,3 +43,16 @@ func nearTexts(s string, bytes string) []string {
 	}
 	return list
 }
+
+// afterAll is a thing after all deeds that may be done, and how many these are, as the document has it.
+func afterAll[T, D any](thing T, deeds []D, do func(T, D) (T, bool)) (T, int) {
+	if len(deeds) == 0 {
+		return thing, 0
+	}
+	after, done := do(thing, deeds[0])
+	if !done {
+		return afterAll(thing, deeds[1:], do)
+	}
+	last, many := afterAll(after, deeds[1:], do)
+	return last, many + 1
+}

@@ -51,7 +51,7 @@ func TestP11BarsRun(t *testing.T) {
 	some, none, all := 0, 0, 0
 	eachBarsRun(func(b impl.Bars, deeds []int) {
 		after, done := impl.BarsRun(b, deeds)
-		want, many := barsAfterAll(b, deeds)
+		want, many := afterAll(b, deeds, barsAfter)
 		check(t, sameBars(after, want) && done == many, b, deeds, after, done, want, many)
 		switch done {
 		case 0:
